@@ -1,0 +1,1 @@
+"""Lots: a small language of drawn boxes, told exactly."""
