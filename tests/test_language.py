@@ -148,6 +148,19 @@ class LanguageTest(unittest.TestCase):
             if isinstance(node.func, ast.Attribute):
                 self.assertIn(node.func.attr, METHODS | defined, where)
 
+    def test_no_name_is_a_method_and_a_value(self):
+        methods = {one.name for node, where in self.each(ast.ClassDef)
+                   for one in node.body if isinstance(one, ast.FunctionDef)}
+        for node, where in self.each(ast.Attribute):
+            if isinstance(node.ctx, ast.Store):
+                self.assertNotIn(node.attr, methods, where)
+
+    def test_sets_are_asked_on_the_spot(self):
+        for node, where in self.each(ast.Assign, ast.Return):
+            value = node.value
+            kept = isinstance(value, ast.Call) and isinstance(value.func, ast.Name) and value.func.id == "set"
+            self.assertFalse(kept or isinstance(value, ast.Set), where)
+
 
 if __name__ == "__main__":
     unittest.main()
