@@ -1,7 +1,7 @@
 """Rows of equations: what meets them, or why nothing does."""
 
 from lots.lifting import lifted
-from lots.ratios import NOUGHT, fraction
+from lots.ratios import NOUGHT, ONE, fraction
 from lots.steps import steps_of
 from lots.wholes import all_meet, shared_bottom, tops_over, whole_rows
 
@@ -70,12 +70,12 @@ def free_place(steps, many):
 def turned(rows, many):
     # Asks for ys that bring each unknown's numbers to nought and the last ones to 1.
     columns = [[row[place] for row in rows] + [NOUGHT] for place in range(many)]
-    columns.append([row[many] for row in rows] + [(1, 1)])
+    columns.append([row[many] for row in rows] + [ONE])
     return columns
 
 
 def level_rows(rows, many, free):
     # Asks for zs that meet the rows with nought at their ends, not all nought: the free one is 1.
     level = [row[:many] + [NOUGHT] for row in rows]
-    level.append([(1, 1) if place == free else NOUGHT for place in range(many)] + [(1, 1)])
+    level.append([ONE if place == free else NOUGHT for place in range(many)] + [ONE])
     return level

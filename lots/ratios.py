@@ -3,6 +3,7 @@
 from lots.errors import NoNumber
 
 NOUGHT = (0, 1)
+ONE = (1, 1)
 
 
 def is_whole(thing):
@@ -55,6 +56,10 @@ def over(one, other):
 
 def under(one, other):
     return one[0] * other[1] < other[0] * one[1]
+
+
+def greater(one, other):
+    return other if under(one, other) else one
 
 
 def total_of(some):

@@ -19,6 +19,11 @@ def is_fraction(thing):
     )
 
 
+def pair_of(exact):
+    """The tuple of a Fraction."""
+    return (exact.numerator, exact.denominator)
+
+
 def same_worth(one, other):
     return one[0] * other[1] == other[0] * one[1]
 

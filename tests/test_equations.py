@@ -4,7 +4,7 @@ from fractions import Fraction
 from math import gcd
 from random import Random
 
-from checks import figures, is_fraction, parameters_of, same_worth, sum_of_products
+from checks import figures, is_fraction, pair_of, parameters_of, same_worth, sum_of_products
 from lots.equations import FIRST_MODULUS, answer_by, answer_of, meets
 from lots.remainders import inverse_of
 
@@ -13,10 +13,6 @@ NOUGHT = (0, 1)
 
 def whole(*numbers):
     return [(number, 1) for number in numbers]
-
-
-def pair_of(exact):
-    return (exact.numerator, exact.denominator)
 
 
 def some_fraction(rng, most):

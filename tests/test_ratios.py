@@ -2,14 +2,10 @@ import unittest
 from fractions import Fraction
 from random import Random
 
-from checks import figures, is_fraction, parameters_of, same_worth
+from checks import figures, is_fraction, pair_of, parameters_of, same_worth
 from lots import ratios
 from lots.errors import NoNumber
 from lots.ratios import fraction, minus, over, plus, times, total_of, under
-
-
-def pair_of(exact):
-    return (exact.numerator, exact.denominator)
 
 
 def some_fractions():
