@@ -49,30 +49,47 @@ class Store:
         return self.facts[node][1]
 
     def added(self, one, other):
-        return self.joined(one, other, plus, {})
+        return self.reckoned_of((one, other), lambda ones: plus(ones[0], ones[1]))
 
     def multiplied(self, one, other):
-        return self.joined(one, other, times, {})
+        return self.reckoned_of((one, other), lambda ones: times(ones[0], ones[1]))
 
     def higher(self, one, other):
-        return self.joined(one, other, greater, {})
+        return self.reckoned_of((one, other), lambda ones: greater(ones[0], ones[1]))
 
-    # known: what came of the pairs gone through so far, so that shared parts are gone through once.
-    def joined(self, one, other, rule, known):
-        if (one, other) not in known:
-            known[(one, other)] = self.joined_anew(one, other, rule, known)
-        return known[(one, other)]
+    def reckoned_of(self, nodes, rule):
+        # rule: of the list of the fractions that the nodes tell at a state, the fraction told there.
+        return self.joined(nodes, lambda these: self.leaf_by(these, rule), {})
 
-    def joined_anew(self, one, other, rule, known):
-        level = min(self.level_of(one), self.level_of(other))
-        if level == len(self.boxes):
-            return self.leaf(rule(self.facts[one][1], self.facts[other][1]))
+    def chosen_by(self, chooser, nodes):
+        # The chooser tells at each state the place of the node that is asked there.
+        return self.joined((chooser,) + nodes, lambda these: self.choice_among(these), {})
+
+    # settle: tells the node that comes of nodes, or None where that hangs on the next box.
+    # known: what came of the nodes gone through so far, so that shared parts are gone through once.
+    def joined(self, nodes, settle, known):
+        if nodes not in known:
+            settled = settle(nodes)
+            known[nodes] = self.joined_below(nodes, settle, known) if settled is None else settled
+        return known[nodes]
+
+    def joined_below(self, nodes, settle, known):
+        level = min([self.level_of(node) for node in nodes])
         kids = []
         for number in range(self.boxes[level][1]):
-            mine = self.kid_at(one, level, number)
-            theirs = self.kid_at(other, level, number)
-            kids.append(self.joined(mine, theirs, rule, known))
+            these = tuple([self.kid_at(node, level, number) for node in nodes])
+            kids.append(self.joined(these, settle, known))
         return self.fork(level, kids)
+
+    def leaf_by(self, nodes, rule):
+        facts = [self.facts[node] for node in nodes]
+        if any([fact[0] == "fork" for fact in facts]):
+            return None
+        return self.leaf(rule([fact[1] for fact in facts]))
+
+    def choice_among(self, nodes):
+        fact = self.facts[nodes[0]]
+        return None if fact[0] == "fork" else nodes[1 + fact[1][0]]
 
     def fixed(self, node, level, number):
         return self.fixed_below(node, level, number, {})
@@ -87,18 +104,21 @@ class Store:
         return known[node]
 
     def marked(self, test):
-        return self.marked_behind(test, ())
+        return self.made(test, lambda state: ONE if holds(self.boxes, state, test) else NOUGHT)
 
-    def marked_behind(self, test, numbers):
+    def made(self, names, rule):
+        # rule: of a state, the fraction told there; it asks for the boxes of these names alone.
+        return self.made_behind(names, rule, ())
+
+    def made_behind(self, names, rule, numbers):
         level = len(numbers)
         if level == len(self.boxes):
-            return self.leaf(ONE if holds(self.boxes, numbers, test) else NOUGHT)
-        name = self.boxes[level][0]
-        if name != test[0] and name != test[2]:
-            # The test does not ask for this box, so one number stands for all of them.
-            return self.marked_behind(test, numbers + (0,))
+            return self.leaf(rule(numbers))
+        if self.boxes[level][0] not in names:
+            # What is told does not hang on this box, so one number stands for all of them.
+            return self.made_behind(names, rule, numbers + (0,))
         size = self.boxes[level][1]
-        return self.fork(level, [self.marked_behind(test, numbers + (number,)) for number in range(size)])
+        return self.fork(level, [self.made_behind(names, rule, numbers + (number,)) for number in range(size)])
 
     def point(self, state):
         nought = self.leaf(NOUGHT)

@@ -7,6 +7,7 @@ from checks import figures, is_fraction, is_whole, pair_of, parameters_of
 from lots.boxes import states_of
 from lots.stores import Store
 from samples import TEST_SIGNS
+from tables import node_of, some_table
 
 BOXES = {
     "none": (),
@@ -20,26 +21,6 @@ BOXES = {
 }
 SMALL = ("none", "one", "two", "thin", "ones", "near")
 VALUES = [(0, 1), (1, 1), (-1, 1), (1, 2), (-2, 3), (5, 1), (10 ** 59, 1), (1, 10 ** 59), (-(10 ** 59), 7)]
-
-
-def node_of(store, table, state=()):
-    """The node of a function told as a dict with a fraction for each state, made by forks alone."""
-    level = len(state)
-    if level == len(store.boxes):
-        return store.leaf(table[state])
-    size = store.boxes[level][1]
-    return store.fork(level, [node_of(store, table, state + (number,)) for number in range(size)])
-
-
-def some_table(rng, boxes, values):
-    """A function that hangs on some of the boxes alone."""
-    asked = [rng.randrange(3) > 0 for box in boxes]
-    by_part = {}
-    table = {}
-    for state in states_of(boxes):
-        part = tuple(number for number, asks in zip(state, asked) if asks)
-        table[state] = by_part.setdefault(part, rng.choice(values))
-    return table
 
 
 class StoreTest(unittest.TestCase):
