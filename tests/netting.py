@@ -3,7 +3,7 @@
 from copy import deepcopy
 from fractions import Fraction
 
-from checks import pair_of
+from checks import pair_of, sum_of_products
 
 NOUGHT = (0, 1)
 ONE = (1, 1)
@@ -60,11 +60,11 @@ def successors(net, node):
 
 def reached_by_words(net, node):
     found = {node}
-    while True:
-        more = found | {number for one in found for number in successors(net, one)}
-        if more == found:
-            return found
-        found = more
+    newest = found
+    while newest:
+        newest = {number for one in newest for number in successors(net, one)} - found
+        found = found | newest
+    return found
 
 
 def distances(net, node):
@@ -78,15 +78,79 @@ def distances(net, node):
 
 
 def rings_by_words(net):
-    rings = []
-    for node in range(len(net)):
-        found = reached_by_words(net, node)
-        if all(net[one] and reached_by_words(net, one) == found for one in found):
-            rings.append(sorted(found))
-    return sorted(ring for place, ring in enumerate(rings) if ring not in rings[:place])
+    found = [reached_by_words(net, node) for node in range(len(net))]
+    rings = {tuple(sorted(some)) for some in found if all(net[one] and found[one] == some for one in some)}
+    return sorted(list(ring) for ring in rings)
 
 
 def unchanged(test, net):
     """Tells a function that fails the test where the net is no longer what it was."""
     kept = deepcopy(net)
     return lambda: test.assertEqual(net, kept)
+
+
+def sum_by_parts(parts, numbers):
+    """The sum of the parts' numbers, each times its share, as an unreduced pair; great numbers stay fast."""
+    return sum_of_products([share for number, share in parts], [numbers[number] for number, share in parts])
+
+
+def told_lists(net):
+    """All lists of a net."""
+    return [net] + net + [parts for choices in net for gain, parts in choices]
+
+
+class Ever:
+    """The edges left of a chain whose inner nodes are taken out one by one.
+
+    An edge bears (p, q): the share of the runs that go by it, and what they gain on the way, times that share.
+    """
+
+    def __init__(self, net):
+        self.edges = {}
+        for node, choices in net.items():
+            assert len(choices) <= 1
+            self.edges[node] = {}
+            for gain, ways in choices:
+                self.edges[node] = {later: (share, share * gain) for later, share in ways.items()}
+        self.ends = {node for node, choices in net.items() if not choices}
+        self.rings = {}
+
+    def take_loop(self, node):
+        """Spreads what comes back to the node over its other edges; a node with no other one is a ring's last one."""
+        share, gained = self.edges[node].pop(node, (Fraction(0), Fraction(0)))
+        if share == 1:
+            self.rings[node] = gained > 0
+            return
+        left, right = 1 / (1 - share), gained / (1 - share) ** 2
+        self.edges[node] = {later: (p * left, q * left + p * right) for later, (p, q) in self.edges[node].items()}
+
+    def take_out(self, node):
+        self.take_loop(node)
+        if node in self.rings:
+            return
+        for other in self.edges:
+            if node in self.edges[other] and other != node:
+                p, q = self.edges[other].pop(node)
+                for later, (share, gained) in self.edges[node].items():
+                    here = self.edges[other].get(later, (Fraction(0), Fraction(0)))
+                    self.edges[other][later] = (here[0] + p * share, here[1] + p * gained + q * share)
+        del self.edges[node]
+
+
+def runs_from(net, start):
+    """What the runs of a chain come to, the chain told as by net_by_words: a dict of the ends with (share, gained),
+    the share that goes on for ever, and the mean of all that is gained, or None."""
+    ever = Ever(net)
+    for node in list(net):
+        if node != start and node not in ever.ends:
+            ever.take_out(node)
+    if start in ever.ends:
+        return {start: (Fraction(1), Fraction(0))}, Fraction(0), Fraction(0)
+    ever.take_loop(start)
+    if start in ever.rings:
+        return {}, Fraction(1), None if ever.rings[start] else Fraction(0)
+    found = ever.edges[start]
+    ends = {node: pair for node, pair in found.items() if node in ever.ends}
+    share = sum((pair[0] for node, pair in found.items() if node in ever.rings), Fraction(0))
+    endless = any(ever.rings.get(node, False) for node in found)
+    return ends, share, None if endless else sum((pair[1] for pair in found.values()), Fraction(0))
